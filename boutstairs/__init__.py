@@ -1,0 +1,1 @@
+"""Boutstairs: cups in which boughs change places."""
