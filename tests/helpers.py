@@ -4,6 +4,9 @@ import itertools
 import time
 import unittest
 
+from boutstairs.errors import BadGame, BadLoose, BadRounds, Unlike
+from boutstairs.fieldmakes import plain
+
 
 def nested(depth):
     """A tuple in a tuple, and so on."""
@@ -58,6 +61,23 @@ class Case(unittest.TestCase):
         self.assertEqual(value, expected)
         kinds = [type(part) for part in parts_of(value)]
         self.assertEqual(kinds, [type(part) for part in parts_of(expected)])
+
+    def asks_cup(self, call, *more, **named):
+        """Whatever else is handed in, the cup is looked at first."""
+        for error, what, pairs in BAD_CUPS:
+            self.refused(error, what, call, plain(4), pairs, *more, **named)
+
+    def asks_second_cup(self, call, one, *more, **named):
+        """Behind the cup one of plain(4), the next one is looked at."""
+        for error, what, pairs in BAD_CUPS:
+            self.refused(error, what, call, plain(4), one, pairs, *more, **named)
+
+    def asks_loose(self, call, *args):
+        """The loose rounds ascend from 1 on."""
+        for what, loose in BAD_LOOSE:
+            self.refused(BadLoose, what, call, *args, loose=loose)
+        with self.assertRaises(TypeError):
+            call(*args, (1,))
 
     def is_yes(self, value):
         self.assertIs(value, True)
@@ -123,3 +143,21 @@ def cups_of(field):
 
     play([(0, -1)] * field.n, tuple(range(field.n)), 1)
     return found
+
+
+# Pairs for plain(4) that are no cup, with what made_cup says of them.
+S = (0, -1)
+BAD_CUPS = (
+    (Unlike, 0, ()),
+    (Unlike, 3, (S, S, S)),
+    (Unlike, 5, ((9, 9), S, S, S, S)),
+    (BadGame, (1, 0), (S, (1, 1), S, (9, 9))),
+    (BadGame, (0, 0), ((1, 4), S, (1, 4), S)),
+    (BadRounds, 1, ((2, 3), (3, 0), S, S)),
+    (BadGame, (0, 1), ((1, 1), (1, 2), S, S)),
+    (BadGame, (1, 2), ((1, 3), (1, 3), (1, 0), S)),
+    (BadGame, (1, 3), (S, (1, 0), S, S)),
+)
+
+# Tuples that are no loose rounds, with the index that is named.
+BAD_LOOSE = ((0, (0,)), (0, (-1, 0)), (1, (1, 1)), (2, (1, 3, 2, 0)), (1, (5, -10 ** 40)), (3, (1, 2, 10 ** 40, 3)))

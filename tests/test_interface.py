@@ -23,6 +23,20 @@ INTERFACE = {
         "board_cheapest(guards, strengths, table)",
     "plans": "made_plan(n, plan) alive(n, plan) resting(n, plan) is_full(n, plan) cups_total(n, plan)",
     "planmakers": "full(n) quick(n) byes_first(n) ladder(n) plan_count(n)",
+    "cups": "made_cup(field, pairs) is_cup(field, pairs)",
+    "cuplooks":
+        "rounds(field, cup) exits(field, cup) losers(field, cup, r) winners(field, cup, r) resters(field, cup, r) "
+        "games(field, cup, r) plan_of(field, cup) stayers(field, cup) wins(field, cup) opponents(field, cup, x)",
+    "records": "records(field, cup) made_records(rows) is_records(rows)",
+    "boughs": "path(field, cup, x) holder(field, cup, x, r) bough(field, cup, x) bough_after(field, cup, x, r)",
+    "meetings": "meet(field, cup, x, y) keeps_apart(field, cup, sides, r)",
+    "seats": "cup_of_seats(field, seats) seats_of(field, cup)",
+    "seatforms": "least_seats(seats) same_seats(one, two) pairings(n)",
+    "deeds": "offers(field, cup, *, loose=())",
+    "done": "done(field, cup, deed, *, loose=()) back_of(field, cup, deed, *, loose=())",
+    "runs": "walked(field, cup, run, *, loose=()) turned_run(field, cup, run, *, loose=())",
+    "judged": "run_right(field, cup, run, goal, *, loose=())",
+    "ways": "same(field, one, two, *, loose=()) ways(field, one, two, *, loose=())",
 }
 
 
