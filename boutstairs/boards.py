@@ -56,10 +56,8 @@ def board_short(guards, strengths):
 def board_count(guards, strengths):
     """The number of fillings."""
     total = 1
+    # Choices begin at 0 or more and fall by at most 1 along the row: where some are below 1, some are 0.
     for _, many in board_choices(guards, strengths):
-        # Two numbers below 0 would have a product above 0.
-        if many < 1:
-            return 0
         total = total * many
     return total
 

@@ -82,7 +82,7 @@ class Counts(Case):
         self.gives(board_short, ((1, 4, 3), (2, 2, 4)), 2)
         self.gives(board_short, ((), ()), None)
         self.gives(board_short, ((0,), ()), 0)
-        # Two losers short: their choices 0 and -1 have a product of 0, 0 - 1 and -2 one above 0.
+        # Several losers are short, with choices below 0 among them.
         self.gives(board_count, ((1, 1, 1, 1), (1,)), 0)
         self.gives(board_count, ((9, 9), ()), 0)
 
