@@ -29,7 +29,7 @@ def is_let(field, cup, deed, loose):
     if word == "shift":
         return r in loose and rests(cup, y, r) and can_beat(field, y, x)
     other, second = cup[y]
-    return 0 < r == other and can_beat(field, second, x) and can_beat(field, beater, y)
+    return r > 0 and other == r and can_beat(field, second, x) and can_beat(field, beater, y)
 
 
 def can_do(field, cup, deed, loose):
