@@ -42,6 +42,14 @@ def poly_at(p, x):
     return total
 
 
+def product_of(numbers):
+    """The product of some numbers, 1 if there are none."""
+    total = 1
+    for number in numbers:
+        total = total * number
+    return total
+
+
 def check_things(n):
     """Refuse a number of things that is not 0 to 64."""
     if not 0 <= n <= MOST_THINGS:

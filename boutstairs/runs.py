@@ -8,6 +8,12 @@ from boutstairs.errors import BadRow, TooMany
 MOST_DEEDS = 1000
 
 
+def check_length(run):
+    """Refuse a run of too many deeds."""
+    if len(run) > MOST_DEEDS:
+        raise TooMany(len(run))
+
+
 def cups_along(field, cup, run, loose):
     """The cup, and the cups behind the deeds, up to the first deed that is refused."""
     found = [cup]
@@ -21,8 +27,7 @@ def cups_along(field, cup, run, loose):
 def checked_cups(field, cup, run, loose):
     """The cup and the cups behind all deeds of what must be a run."""
     made_cup(field, cup)
-    if len(run) > MOST_DEEDS:
-        raise TooMany(len(run))
+    check_length(run)
     check_loose(loose)
     found = cups_along(field, cup, run, loose)
     if len(found) <= len(run):

@@ -37,12 +37,42 @@ INTERFACE = {
     "runs": "walked(field, cup, run, *, loose=()) turned_run(field, cup, run, *, loose=())",
     "judged": "run_right(field, cup, run, goal, *, loose=())",
     "ways": "same(field, one, two, *, loose=()) ways(field, one, two, *, loose=())",
+    "rule": "fewest(field, one, two, *, loose=()) run_between(field, one, two, *, loose=())",
+    "papers": "paper(field, one, two, *, loose=()) paper_right(field, one, two, paper, *, loose=())",
+    "between":
+        "between(field, one, mid, two, *, loose=()) between_count(field, one, two, *, loose=()) "
+        "between_at(field, one, two, k, *, loose=()) between_rank(field, one, mid, two, *, loose=()) "
+        "taken(field, one, two, which, *, loose=())",
+    "shortest":
+        "shortest_count(field, one, two, *, loose=()) shortest_at(field, one, two, k, *, loose=()) "
+        "shortest_rank(field, one, two, run, *, loose=())",
+    "prices": "run_price(field, cup, run, prices, *, loose=()) least_price(field, one, two, prices, *, loose=())",
+    "fits": "short_exits(field, exits) short_records(field, rows) short_right(field, exits, halls, r, x)",
+    "pools":
+        "Pool pool_of(field, cup, *, loose=()) pool_of_exits(field, exits) pool_of_records(field, rows) "
+        "losers_free(pool, r) hall_free(pool, r) choices(pool, r) beater_choices(pool, r) size(pool) holds(pool, cup)",
+    "narrowing": "fixed(pool, x, y) freed(pool, x) rested(pool, r, y) both_pools(one, two) moved(pool, field)",
+    "poolranks": "nth(pool, k) rank(pool, cup) drawn(pool, digits)",
+    "spreads":
+        "balls(pool) farthest(pool) mean_fewest(pool) farthest_cup(pool, cup) at_distance(pool, cup, d, k) "
+        "distance_rank(pool, cup, other)",
+    "gamechances":
+        "game_chance(pool, x, y) told_chance(pool, games) rest_chance(pool, r, y) wins_chances(pool, y) "
+        "wins_mean(pool, y) may_play(pool, x) sure_play(pool, x)",
+    "holders": "holder_chances(pool, x, r)",
 }
 
 
 def entries(text):
     """The entries of a row of the interface: they are parted by blanks outside of brackets."""
-    return text.replace(") ", ")|").replace("Field ", "Field|").split("|")
+    found = []
+    for word in text.split():
+        # A word goes on an entry that has not closed its brackets yet.
+        if found and found[-1].count("(") > found[-1].count(")"):
+            found[-1] += " " + word
+        else:
+            found.append(word)
+    return found
 
 
 class Interface(unittest.TestCase):

@@ -4,6 +4,8 @@ import importlib
 
 from boutstairs.fieldmakes import margined, plain
 from boutstairs.fields import Field
+from boutstairs.narrowing import fixed
+from boutstairs.pools import Pool, pool_of
 from tests.helpers import S, Case, parts_of
 from tests.test_interface import INTERFACE, entries
 
@@ -11,6 +13,11 @@ PLAIN = plain(8)
 ONE = ((1, 4), (1, 5), (1, 6), (1, 7), (2, 6), (2, 7), (3, 7), S)
 TWO = ((1, 5), (1, 6), (1, 4)) + ONE[3:]
 RUN = (("exchange", 0, 2), ("exchange", 0, 1))
+MID = ((1, 6), (1, 5), (1, 4)) + ONE[3:]
+POOL = fixed(pool_of(PLAIN, ONE, loose=(1,)), 4, 6)
+ROOMY = pool_of(PLAIN, ((1, 4),) + (S,) * 7, loose=(1,))
+EXITS = (1, 1, 1, 1, 2, 2, 3, 0)
+HALLS = ((4, 5, 6, 7), (6, 7), (7,))
 ROWS = ((1, 1), (-1,), (0, -1))
 TABLE = ((3, 1, 2), (1, 1, 1))
 ARGUMENTS = {
@@ -26,19 +33,33 @@ ARGUMENTS = {
     "least_seats": ((3, 2, 1, 0),), "same_seats": ((3, 2, 1, 0), (0, 1, 2, 3)), "pairings": (8,),
     "done": (PLAIN, ONE, RUN[0]), "back_of": (PLAIN, ONE, RUN[0]), "walked": (PLAIN, ONE, RUN),
     "turned_run": (PLAIN, ONE, RUN), "run_right": (PLAIN, ONE, RUN, TWO), "same": (PLAIN, ONE, TWO),
-    "ways": (PLAIN, ONE, TWO),
+    "ways": (PLAIN, ONE, TWO), "paper_right": (PLAIN, ONE, TWO, ("exit", 0, 1, 2)),
+    "between": (PLAIN, ONE, MID, TWO), "between_rank": (PLAIN, ONE, MID, TWO), "taken": (PLAIN, ONE, TWO, (0,)),
+    "shortest_rank": (PLAIN, ONE, TWO, RUN), "run_price": (PLAIN, ONE, RUN, (3, 4)),
+    "least_price": (PLAIN, ONE, TWO, (3, 4)), "short_exits": (PLAIN, EXITS),
+    "short_right": (PLAIN, EXITS, HALLS, 1, 0), "pool_of_exits": (PLAIN, EXITS), "freed": (POOL, 4),
+    "rested": (ROOMY, 1, 4),
+    "fixed": (POOL, 0, 5), "both_pools": (POOL, POOL), "moved": (POOL, margined(tuple(range(8)), 1)),
+    "drawn": (POOL, (3, -5)), "at_distance": (POOL, ONE, 2, 1), "distance_rank": (POOL, ONE, TWO),
+    "told_chance": (POOL, ((0, 4), (4, 6))), "short_records": (plain(3), ((-1,), (0, -1), (1, 1))),
+    "pool_of_records": (plain(3), ((-1,), (0, -1), (1, 1))),
 }
 BY_PARAMETERS = {
     "(a, b)": ((1, 2), (3, 4)), "(n, plan)": (8, (4, 2, 1)), "(n)": (8,), "(field)": (PLAIN,),
     "(field, sides)": (PLAIN, (1, 3, 4)), "(guards, strengths)": ((0, 1), (1, 0)), "(field, pairs)": (PLAIN, ONE),
     "(field, cup)": (PLAIN, ONE), "(field, cup, r)": (PLAIN, ONE, 2), "(field, cup, x)": (PLAIN, ONE, 6),
     "(field, cup, x, r)": (PLAIN, ONE, 6, 1), "(field, cup, x, y)": (PLAIN, ONE, 1, 0),
-    "(field, cup, *, loose=())": (PLAIN, ONE),
+    "(field, cup, *, loose=())": (PLAIN, ONE), "(field, one, two, *, loose=())": (PLAIN, ONE, TWO),
+    "(field, one, two, k, *, loose=())": (PLAIN, ONE, TWO, 1), "(pool)": (POOL,), "(pool, cup)": (POOL, ONE),
+    "(pool, r)": (POOL, 2), "(pool, k)": (POOL, 1), "(pool, r, y)": (POOL, 1, 5), "(pool, x)": (POOL, 0),
+    "(pool, y)": (POOL, 6), "(pool, x, y)": (POOL, 0, 5), "(pool, x, r)": (POOL, 0, 2),
 }
 
 
 def picture(value):
-    """The value with each field told by its attributes."""
+    """The value with each field and pool told by its attributes."""
+    if isinstance(value, Pool):
+        return ("pool", picture(value.field), value.exits, value.halls, value.told)
     if isinstance(value, Field):
         return ("field", value.n, value.strengths, value.guards)
     if isinstance(value, (tuple, list)):
