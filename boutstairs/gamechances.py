@@ -75,6 +75,14 @@ def rest_chance(pool, r, y):
     return share(fillings_without(board, y), fillings_of(board))
 
 
+def mean_number(chances):
+    """The mean of a number that is k with the chance at index k."""
+    total = NEVER
+    for k, (n, d) in enumerate(chances):
+        total = plus(total, share(k * n, d))
+    return total
+
+
 def wins_chances(pool, y):
     """At k the chance that y wins just k games."""
     check_side(pool.field.n, y)
@@ -91,11 +99,7 @@ def wins_chances(pool, y):
 
 def wins_mean(pool, y):
     """The mean of how many games y wins."""
-    check_side(pool.field.n, y)
-    total = NEVER
-    for k, chance in enumerate(wins_chances(pool, y)):
-        total = plus(total, share(k * chance[0], chance[1]))
-    return total
+    return mean_number(wins_chances(pool, y))
 
 
 def played_chances(pool, x):

@@ -60,6 +60,19 @@ INTERFACE = {
         "game_chance(pool, x, y) told_chance(pool, games) rest_chance(pool, r, y) wins_chances(pool, y) "
         "wins_mean(pool, y) may_play(pool, x) sure_play(pool, x)",
     "holders": "holder_chances(pool, x, r)",
+    "abovechances": "above_chance(pool, x, y) depth_chances(pool, x) depth_mean(pool, x) bough_mean(pool, y)",
+    "meetchances": "meet_chances(pool, x, y) meet_games(pool, x, y)",
+    "apartchances": "apart_chance(pool, sides, r)",
+    "marks": "marks(pool, games) agree(pool, cup) upsets(pool)",
+    "tables": "cup_price(field, cup, table) mean_price(pool, table) price_variance(pool, table)",
+    "weights": "weighed(pool, table) weighed_chance(pool, table, x, y) drawn_by(pool, table, digits)",
+    "cheapest": "cheapest(pool, table)",
+    "words":
+        "word_fits(n, plan, word) words_count(n, plan) word_size(n, plan, word) exits_of(word) word_of(exits)",
+    "wordranks": "nth_word(n, plan, k) word_rank(n, plan, word)",
+    "exitchances": "exit_chances(n, plan, x)",
+    "fullchances": "full_wins(k, x) full_play(k, x, y)",
+    "ledgers": "ledger_fits(n, plan, ledger) ledgers_count(n, plan) ledger_size(n, plan, ledger)",
 }
 
 

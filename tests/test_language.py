@@ -147,13 +147,23 @@ class Language(unittest.TestCase):
             tops = [node.name for node in tree.body if isinstance(node, ast.FunctionDef)]
             self.assertEqual(len(tops + taken), len(set(tops + taken)), name)
 
+    def own_methods(self):
+        """The methods of the package's classes; none has the name of a builtin value's method."""
+        classes = [node for tree in self.trees.values() for node in tree.body if isinstance(node, ast.ClassDef)]
+        found = {node.name for each in classes for node in each.body if isinstance(node, ast.FunctionDef)}
+        for kind in (str, int, list, dict, set, bytes, tuple):
+            for method in found - {"__init__"}:
+                self.assertFalse(hasattr(kind, method), method)
+        return found
+
     def test_calls(self):
+        methods = METHODS | self.own_methods()
         for name, tree in self.trees.items():
             for node in ast.walk(tree):
                 if isinstance(node, ast.Name) and isinstance(node.ctx, ast.Load) and hasattr(builtins, node.id):
                     self.assertIn(node.id, BUILTINS, (name, node.lineno))
                 if isinstance(node, ast.Call) and isinstance(node.func, ast.Attribute):
-                    self.assertIn(node.func.attr, METHODS, (name, node.lineno))
+                    self.assertIn(node.func.attr, methods, (name, node.lineno))
 
     def test_identity_is_asked_of_constants_alone(self):
         for name, tree in self.trees.items():

@@ -20,6 +20,9 @@ EXITS = (1, 1, 1, 1, 2, 2, 3, 0)
 HALLS = ((4, 5, 6, 7), (6, 7), (7,))
 ROWS = ((1, 1), (-1,), (0, -1))
 TABLE = ((3, 1, 2), (1, 1, 1))
+PRICES = tuple(tuple(x + y for y in range(8)) for x in range(8))
+WORD = (0, 2, 1, 1)
+LEDGER = ((1, 1), (1, -1), (-1,), (-1,))
 ARGUMENTS = {
     "mean": (((1, 2), (1, 3)),), "poly_at": ((1, 2), 3), "choose": (5, 2), "factorial": (5,), "share": (4, -6),
     "plain": (3,), "ranked": ((3, 1),), "margined": ((3, 1), 2), "eased": (PLAIN, 0, 5, -5),
@@ -42,7 +45,10 @@ ARGUMENTS = {
     "fixed": (POOL, 0, 5), "both_pools": (POOL, POOL), "moved": (POOL, margined(tuple(range(8)), 1)),
     "drawn": (POOL, (3, -5)), "at_distance": (POOL, ONE, 2, 1), "distance_rank": (POOL, ONE, TWO),
     "told_chance": (POOL, ((0, 4), (4, 6))), "short_records": (plain(3), ((-1,), (0, -1), (1, 1))),
-    "pool_of_records": (plain(3), ((-1,), (0, -1), (1, 1))),
+    "pool_of_records": (plain(3), ((-1,), (0, -1), (1, 1))), "apart_chance": (POOL, (0, 1, 2), 2),
+    "marks": (POOL, ((0, 4), (4, 6))), "cup_price": (PLAIN, ONE, PRICES), "weighed_chance": (POOL, PRICES, 0, 5),
+    "drawn_by": (POOL, PRICES, (3, -5)), "exits_of": (WORD,), "word_of": (WORD,), "nth_word": (4, (2, 1), 1),
+    "exit_chances": (4, (2, 1), 1), "full_wins": (3, 2), "full_play": (3, 2, 5),
 }
 BY_PARAMETERS = {
     "(a, b)": ((1, 2), (3, 4)), "(n, plan)": (8, (4, 2, 1)), "(n)": (8,), "(field)": (PLAIN,),
@@ -53,6 +59,7 @@ BY_PARAMETERS = {
     "(field, one, two, k, *, loose=())": (PLAIN, ONE, TWO, 1), "(pool)": (POOL,), "(pool, cup)": (POOL, ONE),
     "(pool, r)": (POOL, 2), "(pool, k)": (POOL, 1), "(pool, r, y)": (POOL, 1, 5), "(pool, x)": (POOL, 0),
     "(pool, y)": (POOL, 6), "(pool, x, y)": (POOL, 0, 5), "(pool, x, r)": (POOL, 0, 2),
+    "(pool, table)": (POOL, PRICES), "(n, plan, word)": (4, (2, 1), WORD), "(n, plan, ledger)": (4, (2, 1), LEDGER),
 }
 
 

@@ -1,0 +1,29 @@
+"""The numbers of the words of a plan."""
+
+from boutstairs.errors import BadCount, BadWord
+from boutstairs.rows import row_at
+from boutstairs.wordrows import counted_words
+
+
+def nth_word(n, plan, k):
+    """The word with number k."""
+    rows = counted_words(n, plan)
+    if not 0 <= k < rows.rows_from(rows.start):
+        raise BadCount(k)
+    return row_at(rows, k)
+
+
+def word_rank(n, plan, word):
+    """The number of a word."""
+    rows = counted_words(n, plan)
+    if len(word) != n:
+        raise BadWord(len(word))
+    total = 0
+    state = rows.start
+    for index, r in enumerate(word):
+        found = rows.placed(state, r)
+        if found is None:
+            raise BadWord((index,))
+        lesser, state = found
+        total = total + lesser
+    return total
