@@ -71,8 +71,9 @@ def at_distance(pool, cup, d, k):
     steps = d
     left = k
     for place, (r, x, _) in enumerate(row, start=1):
+        able = open_beaters(pool, pairs, x)
         ring = closing(cup, pairs, x)
-        for y in open_beaters(pool, pairs, x):
+        for y in able:
             rest = steps if y == ring else steps - 1
             many = coefficient(ahead[place], rest)
             if left < many:

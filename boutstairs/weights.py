@@ -98,7 +98,7 @@ def drawn_by(pool, table, digits):
     if total == 0:
         raise BadWeight(0)
     t = last_remainder(digits, total)
-    # The weight of what is settled, times that of all that is still open.
+    # The weight of what is settled, times that of all that is not settled yet.
     scale = total
     pairs = told_pairs(pool)
     for board in boards:

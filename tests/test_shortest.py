@@ -87,8 +87,8 @@ class Listed(Case):
 
     def test_one_round_with_guards_in_the_way(self):
         draw = random.Random(43)
-        for _ in range(15):
-            losing, winning = draw.choice(((4, 4), (4, 5), (5, 5), (3, 6)))
+        for _ in range(80):
+            losing, winning = draw.choice(((3, 3), (4, 4), (3, 4), (4, 5), (5, 5), (3, 6)))
             strengths = (0,) * losing + tuple(draw.randrange(1, 5) for _ in range(winning))
             guards = tuple(draw.randrange(4) for _ in range(losing)) + (0,) * winning
             field = made_field(strengths, guards)
