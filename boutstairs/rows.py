@@ -66,6 +66,19 @@ def row_at(rows, k):
     return tuple(found)
 
 
+def row_number(rows, row):
+    """Pair (the number of a row, None); or (None, the first index up to which none of the rows begins like it)."""
+    total = 0
+    state = rows.start
+    for index, entry in enumerate(row):
+        found = rows.placed(state, entry)
+        if found is None:
+            return (None, index)
+        lesser, state = found
+        total = total + lesser
+    return (total, None)
+
+
 def row_size(rows, row):
     """How many cups a row of entries stands for, 0 if it is none of the rows."""
     total = 1

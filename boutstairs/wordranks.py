@@ -1,7 +1,7 @@
 """The numbers of the words of a plan."""
 
 from boutstairs.errors import BadCount, BadWord
-from boutstairs.rows import row_at
+from boutstairs.rows import row_at, row_number
 from boutstairs.wordrows import counted_words
 
 
@@ -18,12 +18,7 @@ def word_rank(n, plan, word):
     rows = counted_words(n, plan)
     if len(word) != n:
         raise BadWord(len(word))
-    total = 0
-    state = rows.start
-    for index, r in enumerate(word):
-        found = rows.placed(state, r)
-        if found is None:
-            raise BadWord((index,))
-        lesser, state = found
-        total = total + lesser
-    return total
+    number, bad = row_number(rows, word)
+    if bad is not None:
+        raise BadWord((bad,))
+    return number

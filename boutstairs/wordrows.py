@@ -9,10 +9,14 @@ MOST_STATES = 20000
 
 
 class WordRows(Rows):
-    """The words of a plan for n sides; a state has for each exit how often it stands before."""
+    """The words for n sides, by how many lose in each round; a state has for each exit how often it stands before.
 
-    def __init__(self, n, plan):
-        Rows.__init__(self, (0,) * (len(plan) + 1), (n - sum(plan),) + plan)
+    Each game has so many losers: one, but for wide cups.
+    """
+
+    def __init__(self, n, losing, many=1):
+        Rows.__init__(self, (0,) * (len(losing) + 1), (n - sum(losing),) + losing)
+        self.many = many
 
     def steps(self, state):
         """Triples (exit, its choices, the state behind it) of what may come next, ascending."""
@@ -20,8 +24,9 @@ class WordRows(Rows):
         # Whoever stays or loses later, and is stronger, may be the beater.
         above = state[0]
         for r in range(len(state) - 1, 0, -1):
-            if state[r] < min(above, self.end[r]):
-                found.append((r, above - state[r], one_more(state, r)))
+            room = self.many * above
+            if state[r] < min(room, self.end[r]):
+                found.append((r, room - state[r], one_more(state, r)))
             above = above + state[r]
         if state[0] < self.end[0]:
             found.append((0, 1, one_more(state, 0)))

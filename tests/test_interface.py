@@ -73,6 +73,27 @@ INTERFACE = {
     "exitchances": "exit_chances(n, plan, x)",
     "fullchances": "full_wins(k, x) full_play(k, x, y)",
     "ledgers": "ledger_fits(n, plan, ledger) ledgers_count(n, plan) ledger_size(n, plan, ledger)",
+    "ledgerranks": "nth_ledger(n, plan, k) ledger_rank(n, plan, ledger) record_chances(n, plan, x)",
+    "allcups": "cup_at(n, plan, k) cup_number(n, plan, cup) drawn_cup(n, plan, digits)",
+    "cuts": "begun(field, cup, r) rest_of(field, cup, r) followed(field, first, second) bough_of(field, cup, x)",
+    "joins": "beside(one, first, two, second) final(field, cup)",
+    "strikes": "strike(field, cup, x) entered(field, cup, strength, guard, r, y)",
+    "flips": "flipped(field, cup, x) flips(field, cup)",
+    "histories":
+        "deeds_between(field, cups, *, loose=()) history_right(field, cups, *, loose=()) "
+        "shortened(field, cups, *, loose=())",
+    "widecups":
+        "wide_made(field, many, pairs) wide_is(field, many, pairs) wide_games(field, many, cup) "
+        "wide_same(field, many, one, two)",
+    "widedeeds":
+        "wide_done(field, many, cup, deed) wide_walked(field, many, cup, run) wide_offers(field, many, cup) "
+        "wide_run(field, many, one, two) wrong(field, many, one, two)",
+    "widecounts":
+        "wide_choices(field, many, cup, r) wide_size(field, many, cup) wide_nth(field, many, cup, k) "
+        "wide_rank(field, many, cup, other) wide_fewest(field, many, one, two)",
+    "widechances":
+        "wide_chance(field, many, cup, x, y) wide_above(field, many, cup, x, y) wide_together(field, many, cup, x, z)",
+    "widewords": "wide_words(many, k) wide_total(many, k)",
 }
 
 

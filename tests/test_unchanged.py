@@ -22,6 +22,9 @@ ROWS = ((1, 1), (-1,), (0, -1))
 TABLE = ((3, 1, 2), (1, 1, 1))
 PRICES = tuple(tuple(x + y for y in range(8)) for x in range(8))
 WORD = (0, 2, 1, 1)
+ROOM = margined((0, 1, 2, 3, 4, 5), 9)
+WIDE = ((1, 4), (1, 4), (1, 5), (1, 5), S, S)
+WIDER = ((1, 5), (1, 5), (1, 4), (1, 4), S, S)
 LEDGER = ((1, 1), (1, -1), (-1,), (-1,))
 ARGUMENTS = {
     "mean": (((1, 2), (1, 3)),), "poly_at": ((1, 2), 3), "choose": (5, 2), "factorial": (5,), "share": (4, -6),
@@ -48,7 +51,16 @@ ARGUMENTS = {
     "pool_of_records": (plain(3), ((-1,), (0, -1), (1, 1))), "apart_chance": (POOL, (0, 1, 2), 2),
     "marks": (POOL, ((0, 4), (4, 6))), "cup_price": (PLAIN, ONE, PRICES), "weighed_chance": (POOL, PRICES, 0, 5),
     "drawn_by": (POOL, PRICES, (3, -5)), "exits_of": (WORD,), "word_of": (WORD,), "nth_word": (4, (2, 1), 1),
-    "exit_chances": (4, (2, 1), 1), "full_wins": (3, 2), "full_play": (3, 2, 5),
+    "exit_chances": (4, (2, 1), 1), "full_wins": (3, 2), "full_play": (3, 2, 5), "nth_ledger": (4, (2, 1), 1),
+    "record_chances": (4, (2, 1), 1), "cup_at": (4, (2, 1), 1), "cup_number": (4, (2, 1), ((1, 1), (2, 3), (1, 3), S)),
+    "drawn_cup": (4, (2, 1), (3, -5)), "begun": (PLAIN, ONE, 0), "followed": (PLAIN, ONE, (S,)),
+    "beside": (PLAIN, ONE, margined((0, 1), 1), ((1, 1), S)), "final": (plain(3), ((1, 1), S, S)),
+    "strike": (PLAIN, ONE, 0), "entered": (PLAIN, ONE, 3, 4, 4, 7), "flipped": (margined((0, 1), 1), ((1, 1), S), 0),
+    "deeds_between": (PLAIN, (ONE, MID)), "history_right": (PLAIN, (ONE, MID)), "shortened": (PLAIN, (ONE, MID, ONE)),
+    "wide_made": (ROOM, 2, WIDE), "wide_is": (ROOM, 2, WIDE), "wide_done": (ROOM, 2, WIDE, ("exchange", 0, 2)),
+    "wide_walked": (ROOM, 2, WIDE, (("exchange", 0, 2), ("exchange", 1, 3))), "wide_choices": (ROOM, 2, WIDE, 1),
+    "wide_nth": (ROOM, 2, WIDE, 4), "wide_rank": (ROOM, 2, WIDE, WIDER), "wide_together": (ROOM, 2, WIDE, 0, 1),
+    "wide_words": (2, 2), "wide_total": (2, 2),
 }
 BY_PARAMETERS = {
     "(a, b)": ((1, 2), (3, 4)), "(n, plan)": (8, (4, 2, 1)), "(n)": (8,), "(field)": (PLAIN,),
@@ -59,7 +71,9 @@ BY_PARAMETERS = {
     "(field, one, two, k, *, loose=())": (PLAIN, ONE, TWO, 1), "(pool)": (POOL,), "(pool, cup)": (POOL, ONE),
     "(pool, r)": (POOL, 2), "(pool, k)": (POOL, 1), "(pool, r, y)": (POOL, 1, 5), "(pool, x)": (POOL, 0),
     "(pool, y)": (POOL, 6), "(pool, x, y)": (POOL, 0, 5), "(pool, x, r)": (POOL, 0, 2),
-    "(pool, table)": (POOL, PRICES), "(n, plan, word)": (4, (2, 1), WORD), "(n, plan, ledger)": (4, (2, 1), LEDGER),
+    "(field, many, cup)": (ROOM, 2, WIDE), "(field, many, one, two)": (ROOM, 2, WIDE, WIDER),
+    "(field, many, cup, x, y)": (ROOM, 2, WIDE, 0, 4), "(pool, table)": (POOL, PRICES),
+    "(n, plan, word)": (4, (2, 1), WORD), "(n, plan, ledger)": (4, (2, 1), LEDGER),
 }
 
 
