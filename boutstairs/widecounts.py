@@ -68,7 +68,7 @@ class Seating:
         self.open_seats = {game: many for game in sorted(losers_by_game(cup))}
         self.cups_left = class_size(field, many, cup)
 
-    def parts(self, at):
+    def openings(self, at):
         """Pairs (beater, how many of the cups that are left) for the loser at a place of the row, ascending."""
         r, x, room = self.row[at]
         found = []
@@ -103,7 +103,7 @@ def wide_nth(field, many, cup, k):
     pairs = [STAYS] * field.n
     left = k
     for at, (r, x, _) in enumerate(list(seating.row)):
-        y, part, before = part_of(seating.parts(at), left)
+        y, part, before = part_of(seating.openings(at), left)
         seating.take(at, y, part)
         left = left - before
         pairs[x] = (r, y)
@@ -116,7 +116,7 @@ def wide_rank(field, many, cup, other):
     seating = Seating(field, many, cup)
     total = 0
     for at, (_, x, _) in enumerate(list(seating.row)):
-        parts = seating.parts(at)
+        parts = seating.openings(at)
         beater = other[x][1]
         total = total + sum([part for y, part in parts if y < beater])
         seating.take(at, beater, dict(parts)[beater])

@@ -94,6 +94,18 @@ INTERFACE = {
     "widechances":
         "wide_chance(field, many, cup, x, y) wide_above(field, many, cup, x, y) wide_together(field, many, cup, x, z)",
     "widewords": "wide_words(many, k) wide_total(many, k)",
+    "fieldtext": "field_text(field) field_from(text)",
+    "plantext": "plan_text(n, plan) plan_from(text) word_text(word) word_from(text)",
+    "cuptext": "cup_text(field, cup) cup_from(field, text)",
+    "recordtext": "records_text(rows) records_from(text)",
+    "runtext": "run_text(run) run_from(text)",
+    "seattext": "seats_text(seats) seats_from(text)",
+    "tabletext": "table_text(table) table_from(text)",
+    "papertext": "paper_text(paper) paper_from(text)",
+    "pooltext": "pool_text(pool) pool_from(field, text)",
+    "live": "Live(field, cup, *, loose=())",
+    "liveasks": "pool_now(live) can_home(live) why_not(live) way_home(live) left(live) chance(live, x, y)",
+    "sayslive": "answer(live, row)",
 }
 
 

@@ -4,6 +4,7 @@ import importlib
 
 from boutstairs.fieldmakes import margined, plain
 from boutstairs.fields import Field
+from boutstairs.live import Live
 from boutstairs.narrowing import fixed
 from boutstairs.pools import Pool, pool_of
 from tests.helpers import S, Case, parts_of
@@ -25,6 +26,22 @@ WORD = (0, 2, 1, 1)
 ROOM = margined((0, 1, 2, 3, 4, 5), 9)
 WIDE = ((1, 4), (1, 4), (1, 5), (1, 5), S, S)
 WIDER = ((1, 5), (1, 5), (1, 4), (1, 4), S, S)
+
+
+def moved_live():
+    """A live cup that can go home by a deed."""
+    live = Live(PLAIN, ONE, loose=(1,))
+    live.exchange(0, 1)
+    return live
+
+
+def strayed_live():
+    """A live cup that cannot go home."""
+    live = moved_live()
+    live.play(0)
+    return live
+
+
 LEDGER = ((1, 1), (1, -1), (-1,), (-1,))
 ARGUMENTS = {
     "mean": (((1, 2), (1, 3)),), "poly_at": ((1, 2), 3), "choose": (5, 2), "factorial": (5,), "share": (4, -6),
@@ -60,9 +77,16 @@ ARGUMENTS = {
     "wide_made": (ROOM, 2, WIDE), "wide_is": (ROOM, 2, WIDE), "wide_done": (ROOM, 2, WIDE, ("exchange", 0, 2)),
     "wide_walked": (ROOM, 2, WIDE, (("exchange", 0, 2), ("exchange", 1, 3))), "wide_choices": (ROOM, 2, WIDE, 1),
     "wide_nth": (ROOM, 2, WIDE, 4), "wide_rank": (ROOM, 2, WIDE, WIDER), "wide_together": (ROOM, 2, WIDE, 0, 1),
-    "wide_words": (2, 2), "wide_total": (2, 2),
+    "wide_words": (2, 2), "wide_total": (2, 2), "field_from": ("field 2\n0 1\n-5 7",), "plan_from": ("plan 4 2 1",),
+    "word_text": (WORD,), "word_from": ("word 0 2 1 1",), "cup_from": (plain(2), "cup 2\n1 1\n-"),
+    "records_text": (ROWS,), "records_from": ("records 2\nl\nw",), "run_text": (RUN,), "run_from": ("shift 0 1",),
+    "seats_text": ((3, 2, 1, 0),), "seats_from": ("((0 1) (2 3))",), "table_text": (PRICES,),
+    "table_from": ("table 2\n0 1\n2 3",), "paper_text": (("rest", 1, 2),), "paper_from": ("few 1 2",),
+    "pool_from": (plain(2), "pool 2\nexits 1 0\nhall 1\ntold 0 1"), "why_not": (strayed_live(),),
+    "chance": (moved_live(), 0, 5), "answer": (moved_live(), "cup"),
 }
 BY_PARAMETERS = {
+    "(live)": (moved_live(),),
     "(a, b)": ((1, 2), (3, 4)), "(n, plan)": (8, (4, 2, 1)), "(n)": (8,), "(field)": (PLAIN,),
     "(field, sides)": (PLAIN, (1, 3, 4)), "(guards, strengths)": ((0, 1), (1, 0)), "(field, pairs)": (PLAIN, ONE),
     "(field, cup)": (PLAIN, ONE), "(field, cup, r)": (PLAIN, ONE, 2), "(field, cup, x)": (PLAIN, ONE, 6),
@@ -83,6 +107,8 @@ def picture(value):
         return ("pool", picture(value.field), value.exits, value.halls, value.told)
     if isinstance(value, Field):
         return ("field", value.n, value.strengths, value.guards)
+    if isinstance(value, Live):
+        return ("live", picture(value.field()), value.cup(), value.loose(), value.marked(), value.played(), value.record())
     if isinstance(value, (tuple, list)):
         return type(value)(picture(part) for part in value)
     return value
