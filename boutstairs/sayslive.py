@@ -8,7 +8,7 @@ from boutstairs.liveasks import can_home, chance, left, pool_now, way_home, why_
 from boutstairs.papertext import paper_text
 from boutstairs.pools import size
 from boutstairs.runtext import run_text
-from boutstairs.textrows import MOST_SMALL, so_many, spaced
+from boutstairs.textrows import MOST_SMALL, numbers_in, spaced
 
 # How many numbers stand behind each word.
 DEEDS = {"exchange": 2, "shift": 2, "play": 1, "flip": 1, "ease": 3, "mark": 0, "undo": 0, "redo": 0}
@@ -19,15 +19,13 @@ QUESTIONS = {
 def numbers_of(words):
     """The numbers of a row's words; None if it is no row that is let."""
     word = words[0]
-    if word == "ease":
-        side = so_many(words[1:2], 1, 0, MOST_SMALL)
-        bounds = so_many(words[2:], 2, -MOST, MOST)
-        return None if side is None or bounds is None else side + bounds
-    if word in DEEDS:
-        return so_many(words[1:], DEEDS[word], 0, MOST_SMALL)
-    if word in QUESTIONS:
-        return so_many(words[1:], QUESTIONS[word], 0, MOST_SMALL)
-    return None
+    if DEEDS.get(word, QUESTIONS.get(word)) != len(words) - 1:
+        return None
+    if word != "ease":
+        return numbers_in(words[1:], 0, MOST_SMALL)
+    side = numbers_in(words[1:2], 0, MOST_SMALL)
+    bounds = numbers_in(words[2:], -MOST, MOST)
+    return None if side is None or bounds is None else side + bounds
 
 
 def do_deed(live, word, numbers):

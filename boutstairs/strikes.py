@@ -2,7 +2,7 @@
 
 from boutstairs.checks import MOST_SIDES, check_round, check_side
 from boutstairs.cuplooks import last_round, rests, round_losers
-from boutstairs.cups import STAYS, made_cup
+from boutstairs.cups import made_cup
 from boutstairs.errors import BadGuard, BadSize, BadStrength, IsWinner, NoGame, NoRest
 from boutstairs.fieldmakes import beside_fields, kept_field
 from boutstairs.fields import MOST, made_field
@@ -11,8 +11,7 @@ from boutstairs.fields import MOST, made_field
 def pair_without(pair, x, gone):
     """A side's pair when side x is struck off, and perhaps the round that is gone with it."""
     r, y = pair
-    if r == 0:
-        return STAYS
+    # Whoever stays has (0, -1), of which neither number is above.
     return (r - 1 if gone is not None and r > gone else r, y - 1 if y > x else y)
 
 

@@ -10,7 +10,7 @@ MOST_SMALL = 31
 
 def number_in(word, least, most):
     """The number that a word tells; None unless it is a number word from least to most."""
-    figures = word.removeprefix("-") if least < 0 else word
+    figures = word.removeprefix("-")
     if not 1 <= len(figures) <= MOST_FIGURES or any(figure not in FIGURES for figure in figures):
         return None
     if figures != "0" and figures.startswith("0") or word == "-0":

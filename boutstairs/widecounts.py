@@ -73,7 +73,7 @@ class Seating:
         r, x, room = self.row[at]
         found = []
         for (s, y), seats in self.open_seats.items():
-            if s == r and seats > 0 and can_beat(self.field, y, x):
+            if s == r and can_beat(self.field, y, x):
                 found.append((y, self.cups_left * seats // room))
         return found
 

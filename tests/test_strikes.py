@@ -123,6 +123,7 @@ class Entering(Case):
         self.refused(NoRest, (4, 6), entered, plain(8), C, 0, MOST, 4, 6)
         self.refused(NoGame, (8, 7), entered, plain(8), C, 0, 8, 4, 7)
         self.exactly(entered(plain(8), C, -MOST, 7, 4, 7)[1], C + ((4, 7),))
+        self.exactly(entered(plain(8), C, MOST, -MOST, 4, 7)[0].guards[8], -MOST)
         # A field of 32 takes nobody in, whatever else is asked for.
         full = (S,) * 32
         self.refused(BadSize, 33, entered, plain(32), ((1, 1),) + full[1:], 0, MOST, 1, 1)

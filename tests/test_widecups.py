@@ -8,6 +8,7 @@ from boutstairs.errors import (
     BadCount, BadDeed, BadGame, BadRounds, BadRow, BadWidth, NotSame, Refused, TooMany, Unlike)
 from boutstairs.fieldmakes import margined, plain, ranked
 from boutstairs.fields import made_field
+from boutstairs.rule import fewest
 from boutstairs.widecups import wide_games, wide_is, wide_made, wide_same
 from boutstairs.widedeeds import wide_done, wide_offers, wide_run, wide_walked, wrong
 from boutstairs.ways import same
@@ -219,6 +220,8 @@ class Runs(WideCase):
         self.gives(wrong, (field, many, one, two), unlike)
         self.exactly(wide_walked(field, many, one, run), two)
         self.assertTrue(len(run) < unlike or one == two and run == ())
+        if many == 1:
+            self.assertEqual(len(run), fewest(field, one, two))
         # Deed by deed as the document takes them.
         now = one
         for deed in run:
